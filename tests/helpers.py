@@ -1,0 +1,37 @@
+"""What several tests share."""
+
+from random import Random
+
+HUGE = 99999999999999999999
+
+
+class Checks:
+    """Checks beside those of a TestCase, which it is mixed into."""
+
+    def refused(self, kind, call, *handed, **values):
+        """The call is refused with just this class and these values, and leaves what is handed in as it was."""
+        before = [list(thing) if isinstance(thing, list) else thing for thing in handed]
+        with self.assertRaises(kind) as caught:
+            call(*handed)
+        self.assertIs(type(caught.exception), kind)
+        for name, value in values.items():
+            self.assertEqual(getattr(caught.exception, name), value)
+        self.assertEqual(list(handed), before)
+
+    def tells(self, call, handed, expected):
+        """The call tells a new list each time, of whole numbers, and leaves what is handed in as it was."""
+        before = list(handed)
+        first = call(handed)
+        self.assertIs(type(first), list)
+        self.assertEqual(first, expected)
+        self.assertEqual({type(thing) for thing in first} - {int}, set())
+        first.append(77)
+        first[0] = 78
+        self.assertEqual(handed, before)
+        self.assertEqual(call(handed), expected)
+
+
+def some_rows(seed, lengths):
+    """Rows of bits, one of each length, the same ones in each run."""
+    chance = Random(seed)
+    return [[chance.randrange(2) for place in range(length)] for length in lengths]

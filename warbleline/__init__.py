@@ -1,0 +1,1 @@
+"""Warbleline: two ends that talk over one bad wire."""
