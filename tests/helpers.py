@@ -2,7 +2,11 @@
 
 from random import Random
 
+from warbleline.book import Book
+
 HUGE = 99999999999999999999
+# Its 45 bytes are all unlike, so a new book learns 44 words of it and is just full.
+FILLING = list(range(100, 145))
 
 
 class Checks:
@@ -35,3 +39,16 @@ def some_rows(seed, lengths):
     """Rows of bits, one of each length, the same ones in each run."""
     chance = Random(seed)
     return [[chance.randrange(2) for place in range(length)] for length in lengths]
+
+
+def book_of_rows(*rows):
+    """A book that shortened these rows."""
+    book = Book()
+    for row in rows:
+        book.shorten(row)
+    return book
+
+
+def full_book():
+    """A book that is just full."""
+    return book_of_rows(FILLING)

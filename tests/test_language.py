@@ -131,7 +131,52 @@ class NamesTest(unittest.TestCase):
                     self.assertIn(node.func.attr, known, (path, node.lineno))
 
 
+class ClassesTest(unittest.TestCase):
+    # The methods that the document's interface lists for each class.
+    listed = {
+        "Reader": "take forget hurt waiting twin",
+        "Scrambler": "push memory twin",
+        "Descrambler": "push memory twin",
+        "Book": "shorten lengthen pack unpack learnt twin __eq__ __len__ __repr__",
+    }
+
+    def methods_of(self, kind):
+        return [method.name for method in kind.body if isinstance(method, ast.FunctionDef)]
+
+    def test_listed_methods_stand_in_the_class_itself(self):
+        found = {kind.name: self.methods_of(kind) for tree in trees().values() for kind in nodes(tree, ast.ClassDef)}
+        for name, methods in self.listed.items():
+            self.assertEqual(set(methods.split()) - set(found[name]), set(), name)
+
+    def test_double_underscore_methods(self):
+        for path, tree in trees().items():
+            for kind in nodes(tree, ast.ClassDef):
+                methods = self.methods_of(kind)
+                self.assertEqual(len(methods), len(set(methods)), (path, kind.name))
+                self.assertEqual({name for name in methods if name.startswith("_")} - DOUBLE, set(), (path, kind.name))
+
+
 class ExpressionsTest(unittest.TestCase):
+    def test_no_generator_expressions(self):
+        # Books have an __eq__, so lists are taken instead.
+        for path, tree in trees().items():
+            self.assertEqual([node.lineno for node in nodes(tree, ast.GeneratorExp)], [], path)
+
+    def test_iterated_at_once(self):
+        stored = {"zip", "enumerate", "reversed", "range", "items", "keys", "values"}
+        for path, tree in trees().items():
+            for node in nodes(tree, ast.Assign, ast.AugAssign, ast.Return):
+                if isinstance(node.value, ast.Call):
+                    called = node.value.func
+                    name = called.id if isinstance(called, ast.Name) else getattr(called, "attr", "")
+                    self.assertNotIn(name, stored, (path, node.lineno))
+
+    def test_powers_are_literal(self):
+        for path, tree in trees().items():
+            for node in nodes(tree, ast.BinOp):
+                if isinstance(node.op, ast.Pow):
+                    self.assertIsInstance(node.right, ast.Constant, (path, node.lineno))
+
     def test_barred_forms(self):
         barred = (ast.Global, ast.AsyncFunctionDef, ast.Div, ast.Await)
         for path, tree in trees().items():
