@@ -1,5 +1,6 @@
 """What several tests share."""
 
+from math import isqrt
 from random import Random
 
 from warbleline.book import Book
@@ -52,3 +53,17 @@ def book_of_rows(*rows):
 def full_book():
     """A book that is just full."""
     return book_of_rows(FILLING)
+
+
+def quiet_noise(chance, rate):
+    """A burst's noise for either end, pairs, whose squares add up to less than a quarter of the least distance."""
+    ends = []
+    for end in range(2):
+        rest = ({1: 36864, 2: 9216, 3: 2304, 4: 576}[rate] - 1) // 4
+        noises = [0] * 18
+        for beat in chance.sample(range(18), 18):
+            most = isqrt(rest)
+            noises[beat] = chance.randint(-most, most) if chance.random() < 0.3 else 0
+            rest -= noises[beat] ** 2
+        ends.append(noises)
+    return list(zip(*ends))

@@ -138,6 +138,10 @@ class ClassesTest(unittest.TestCase):
         "Scrambler": "push memory twin",
         "Descrambler": "push memory twin",
         "Book": "shorten lengthen pack unpack learnt twin __eq__ __len__ __repr__",
+        "Wire": "shares beat hush twin __eq__ __repr__",
+        "Shaper": "say past twin",
+        "Mouth": "tell burst waiting turn_to twin",
+        "Ear": "hear deaf hurt turn_to twin",
     }
 
     def methods_of(self, kind):
