@@ -5,7 +5,7 @@ from functools import partial
 from random import Random
 
 from helpers import HUGE, Checks, quiet_noise, some_rows
-from test_mouth import payload_of_frame
+from test_mouth import ByWords, payload_of_frame
 from warbleline.errors import BadCount, BadNoise, BadRate, BadTaps
 from warbleline.frames import Reader, framed
 from warbleline.points import folded
@@ -275,10 +275,10 @@ class DeafTest(unittest.TestCase):
         ear.deaf([0] * 15 + [5, 6, 7])
         other.deaf([0] * 18)
         payload = payload_of_frame(57)
-        mouth = Mouth(rate=4)
         # Seven bits go, then comes a frame: its first bits stand in the second beat.
-        mouth.queue = [0] * 7 + framed(payload)
-        burst = mouth.burst()
+        words = ByWords((), 4, 0)
+        words.queue = [0] * 7 + framed(payload)
+        burst = words.burst()
         voice = [burst[0] + 5 + 256, burst[1] + 6, burst[2] + 7] + burst[3:]
         self.assertEqual(ear.hear(voice, SILENCE), [payload])
         self.assertEqual(other.hear(burst, SILENCE), [payload])

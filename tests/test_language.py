@@ -142,6 +142,11 @@ class ClassesTest(unittest.TestCase):
         "Shaper": "say past twin",
         "Mouth": "tell burst waiting turn_to twin",
         "Ear": "hear deaf hurt turn_to twin",
+        "Link": "hand frame take waiting unanswered awaited idle twin",
+        "Guard": "beat held twin",
+        "Pair": "hand key back turn turns turn_to rate retrain quiet told untold hurt hang tape play twin __len__ "
+                "__repr__",
+        "Desk": "say pair",
     }
 
     def methods_of(self, kind):

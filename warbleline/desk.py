@@ -3,8 +3,7 @@
 from warbleline.errors import LineError, Missing
 
 # All that lines may have: the signs from the blank on, in order, but for the one of hundredths behind the fifth.
-SIGNS = (" !\"#$" + "&'()*+,-./0123456789:;<=>?@ABCDEFGHIJKLMNOPQRSTUVWXYZ[\\]^_`"
-         + "abcdefghijklmnopqrstuvwxyz{|}~")
+SIGNS = " !\"#$&'()*+,-./0123456789:;<=>?@ABCDEFGHIJKLMNOPQRSTUVWXYZ[\\]^_`abcdefghijklmnopqrstuvwxyz{|}~"
 NO_LINE = "what"
 NUMBERS = 100
 
