@@ -390,6 +390,17 @@ class ByItselfTest(unittest.TestCase):
                 self.assertEqual(twin.hurt(), ear.hurt())
                 self.assertEqual(twin.hear(heard, own), ear.twin().hear(heard, own))
 
+    def test_twin_of_an_ear_that_was_deaf(self):
+        # The frame begins with the first bit, so neither the ear nor its twin hears it.
+        mouth, ear = Mouth(rate=4), Ear(rate=4)
+        mouth.tell([1, 0, 1])
+        burst = mouth.burst()
+        self.assertEqual(ear.twin().hear(burst, SILENCE), [[1, 0, 1]])
+        ear.deaf(SILENCE)
+        twin = ear.twin()
+        self.assertEqual(twin.hear(burst, SILENCE), [])
+        self.assertEqual(ear.hear(burst, SILENCE), [])
+
     def test_each_by_itself(self):
         mouth = Mouth(rate=2)
         payload = some_rows(51, [50])[0]

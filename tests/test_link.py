@@ -579,6 +579,14 @@ class ByItselfTest(unittest.TestCase):
                 self.assertEqual(twin.take(back), one.take(back))
             self.assertEqual(link_stands(twin), link_stands(one))
 
+    def test_twin_that_owes_an_answer(self):
+        link = Link()
+        link.take(payload(0, 0, 1, [0]))
+        twin = link.twin()
+        self.assertEqual([twin.frame(), twin.frame()], [answered(1), None])
+        self.assertEqual([link.frame(), link.frame()], [answered(1), None])
+        self.assertIsNone(link.twin().frame())
+
     def test_each_by_itself(self):
         def begun():
             link = waiting_link(6)

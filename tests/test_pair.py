@@ -580,5 +580,20 @@ class ByItselfTest(unittest.TestCase):
         self.assertEqual(pair.tape()[-2:], [("hand", "one", [5]), ("hang",)])
 
 
+    def test_untold_rows_are_copies(self):
+        pair, row, keyed = Pair(Wire()), [1, 2], [3]
+        pair.hand("one", row)
+        pair.key("other", keyed)
+        row.append(9)
+        keyed.append(9)
+        # A twin's rows are not the first one's.
+        left = pair.twin().hang()
+        self.assertEqual(left, ([[1, 2]], [[3]]))
+        for rows in left:
+            rows[0].append(8)
+            rows.append([7])
+        self.assertEqual(pair.hang(), ([[1, 2]], [[3]]))
+
+
 if __name__ == "__main__":
     unittest.main()

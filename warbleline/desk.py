@@ -146,9 +146,8 @@ def answer(pair, line):
     if line in ALONE:
         action = ALONE[line]
         return action(pair)
+    # What lacks its blank has nothing behind it, which is neither an end nor a number.
     word, blank, rest = line.partition(" ")
-    if blank == "":
-        return NO_LINE
     if word in WITH_END:
         return answer_with_end(pair, word, rest)
     if word in WITH_NUMBER:
